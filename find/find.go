@@ -1,4 +1,5 @@
-package both
+// Package find: a word that an automaton takes.
+package find
 
 import (
 	"slices"
@@ -7,8 +8,8 @@ import (
 	"lassowork/steps"
 )
 
-// some word: its Head leads to a good state, and its Loop from there back to it. There is such a state, if any word is taken: good states come without an end, and there are only so many.
-func some(a api.Auto) (api.Lasso, bool) {
+// Word that an automaton takes: its Head leads to a good state, and its Loop from there back to it; both have not more letters than there are states. There is such a state, if any word is taken: good states come without an end, and there are only so many. The automaton must be as auto.Check asks, but may have any number of states and steps.
+func Word(a api.Auto) (api.Lasso, bool) {
 	var loop []int
 	leadsBack := func(state int) bool {
 		if !a.Good[state] {

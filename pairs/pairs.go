@@ -1,12 +1,28 @@
-package both
+// Package pairs: two automata, and one whose states are pairs of theirs.
+package pairs
 
 import (
 	"iter"
 
 	"lassowork/api"
+	"lassowork/auto"
 	"lassowork/nodes"
 	"lassowork/steps"
 )
+
+// Check a, then b; ErrForm, if they have not as many letters.
+func Check(a, b api.Auto) api.Errno {
+	if e := auto.Check(a); e != api.OK {
+		return e
+	}
+	if e := auto.Check(b); e != api.OK {
+		return e
+	}
+	if a.Letters != b.Letters {
+		return api.ErrForm
+	}
+	return api.OK
+}
 
 // pair of states of a and b, and whether a good state of b is waited for, or one of a.
 type pair struct {
@@ -14,8 +30,8 @@ type pair struct {
 	waits bool
 }
 
-// together: a and b go by the same word. Good states of both come without an end just if those that are waited for, of a and of b by turns, do; so it is good where one of a, waited for, is come to.
-func together(a, b api.Auto) api.Auto {
+// Auto takes the words that both take: a and b go by the same word. Good states of both come without an end just if those that are waited for, of a and of b by turns, do; so it is good where one of a, waited for, is come to. There are at most twice as many pairs as a's states times b's; no limit is held.
+func Auto(a, b api.Auto) api.Auto {
 	var first []pair
 	for _, s := range a.First {
 		for _, t := range b.First {
